@@ -7,6 +7,7 @@ import (
 	"testing"
 
 	"glacis/api"
+	"glacis/samples"
 )
 
 // The four headers.
@@ -70,14 +71,6 @@ func allKeyed() []keyed {
 	}
 	for _, name := range []string{coop, coopR} {
 		out = append(out, keyed{name, "same-origin", api.CoopSame}, keyed{name, "same-origin-allow-popups", api.CoopPopup})
-	}
-	return out
-}
-
-func allBytes() []string {
-	var out []string
-	for i := range 256 {
-		out = append(out, string([]byte{byte(i)}))
 	}
 	return out
 }
@@ -244,7 +237,7 @@ func TestKeywordEachByte(t *testing.T) {
 	for _, k := range allKeyed() {
 		for i := range len(k.keyword) {
 			check(t, head(k.name, k.keyword[:i]+k.keyword[i+1:]), policies{})
-			for _, c := range allBytes() {
+			for _, c := range samples.Bytes() {
 				// A semicolon ends the keyword: what follows is a parameter.
 				if c == k.keyword[i:i+1] || c == ";" {
 					continue

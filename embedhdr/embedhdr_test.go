@@ -6,6 +6,7 @@ import (
 	"testing"
 
 	"glacis/api"
+	"glacis/samples"
 )
 
 // The two headers.
@@ -13,15 +14,6 @@ const (
 	corp = "cross-origin-resource-policy"
 	xfo  = "x-frame-options"
 )
-
-// lines are headers of one name.
-func lines(name string, values ...string) []api.Header {
-	var out []api.Header
-	for _, v := range values {
-		out = append(out, api.Header{Name: name, Value: v})
-	}
-	return out
-}
 
 // check holds both answers of a head against what they should be.
 func check(t *testing.T, l []api.Header, wantCorp, wantXfo int) {
@@ -37,13 +29,13 @@ func check(t *testing.T, l []api.Header, wantCorp, wantXfo int) {
 // checkCorp is of a head with nothing but resource policies.
 func checkCorp(t *testing.T, want int, values ...string) {
 	t.Helper()
-	check(t, lines(corp, values...), want, api.XfoNone)
+	check(t, samples.Lines(corp, values...), want, api.XfoNone)
 }
 
 // checkXfo is of a head with nothing but frame options.
 func checkXfo(t *testing.T, want int, values ...string) {
 	t.Helper()
-	check(t, lines(xfo, values...), api.CorpNone, want)
+	check(t, samples.Lines(xfo, values...), api.CorpNone, want)
 }
 
 // keyword is a value that a header knows.
@@ -58,25 +50,6 @@ func corpKeywords() []keyword {
 
 func xfoKeywords() []keyword {
 	return []keyword{{"deny", api.XfoDeny}, {"sameorigin", api.XfoSame}, {"allowall", api.XfoAll}}
-}
-
-func allBytes() []string {
-	var out []string
-	for i := range 256 {
-		out = append(out, string([]byte{byte(i)}))
-	}
-	return out
-}
-
-// sizes are a text with each letter made great, alone and all together.
-func sizes(text string) []string {
-	out := []string{strings.ToUpper(text)}
-	for i := range len(text) {
-		if up := text[:i] + strings.ToUpper(text[i:i+1]) + text[i+1:]; up != text {
-			out = append(out, up)
-		}
-	}
-	return out
 }
 
 // P9.1, P9.2: the chapter's examples.
@@ -98,7 +71,7 @@ func TestCorp(t *testing.T) {
 		for _, field := range []string{"K", " K", "K ", "  K  ", "\tK\t", "\n\f\r K\t\n\f\r "} {
 			value := strings.ReplaceAll(field, "K", k.text)
 			checkCorp(t, k.value, value)
-			l := slices.Concat(lines("x", "cross-origin"), lines(corp, value), lines("cross-origin-embedder-policy", "same-site"))
+			l := slices.Concat(samples.Lines("x", "cross-origin"), samples.Lines(corp, value), samples.Lines("cross-origin-embedder-policy", "same-site"))
 			check(t, l, k.value, api.XfoNone)
 		}
 	}
@@ -123,7 +96,7 @@ func TestCorpJoined(t *testing.T) {
 			checkCorp(t, api.CorpNone, k.text, other)
 			checkCorp(t, api.CorpNone, other, k.text)
 			checkCorp(t, api.CorpNone, k.text, other, k.text)
-			l := slices.Concat(lines(corp, k.text), lines("x", "y"), lines(strings.ToUpper(corp), other))
+			l := slices.Concat(samples.Lines(corp, k.text), samples.Lines("x", "y"), samples.Lines(strings.ToUpper(corp), other))
 			check(t, l, api.CorpNone, api.XfoNone)
 		}
 		checkCorp(t, api.CorpNone, k.text[:4], k.text[4:])
@@ -134,12 +107,12 @@ func TestCorpJoined(t *testing.T) {
 // P9.1, P9.3: the exact bytes only: in letters of another size, with any byte another, one more or one less, it is not the value.
 func TestCorpEachByte(t *testing.T) {
 	for _, k := range corpKeywords() {
-		for _, text := range sizes(k.text) {
+		for _, text := range samples.Sizes(k.text) {
 			checkCorp(t, api.CorpNone, text)
 		}
 		for i := range len(k.text) {
 			checkCorp(t, api.CorpNone, k.text[:i]+k.text[i+1:])
-			for _, c := range allBytes() {
+			for _, c := range samples.Bytes() {
 				if c != k.text[i:i+1] {
 					checkCorp(t, api.CorpNone, k.text[:i]+c+k.text[i+1:])
 				}
@@ -159,7 +132,7 @@ func TestXfoOneWord(t *testing.T) {
 			checkXfo(t, k.value, value)
 			checkXfo(t, k.value, value, k.text)
 			checkXfo(t, k.value, k.text, value, " "+value)
-			l := slices.Concat(lines("x", "deny"), lines(xfo, value), lines("x-frame-option", "allowall"), lines(xfo, k.text))
+			l := slices.Concat(samples.Lines("x", "deny"), samples.Lines(xfo, value), samples.Lines("x-frame-option", "allowall"), samples.Lines(xfo, k.text))
 			check(t, l, api.CorpNone, k.value)
 		}
 	}
@@ -238,7 +211,7 @@ func TestXfoEachByte(t *testing.T) {
 	for _, k := range xfoKeywords() {
 		for i := range len(k.text) {
 			checkXfo(t, api.XfoNone, k.text[:i]+k.text[i+1:])
-			for _, c := range allBytes() {
+			for _, c := range samples.Bytes() {
 				if !strings.EqualFold(c, k.text[i:i+1]) {
 					checkXfo(t, api.XfoNone, k.text[:i]+c+k.text[i+1:])
 				}
@@ -253,7 +226,7 @@ func TestXfoEachByte(t *testing.T) {
 // P9.2, P9.3: words in letters of another size are the same words. No letter beyond A to Z has another size.
 func TestXfoSizes(t *testing.T) {
 	for _, k := range xfoKeywords() {
-		for _, text := range sizes(k.text) {
+		for _, text := range samples.Sizes(k.text) {
 			checkXfo(t, k.value, text)
 			checkXfo(t, k.value, k.text, text)
 			checkXfo(t, k.value, text+","+k.text, text)
@@ -316,7 +289,7 @@ func stated(list []string) int {
 
 // P9.1, P9.2: no header at all, and none of the two.
 func TestNoHeader(t *testing.T) {
-	for _, l := range [][]api.Header{nil, {}, {{}}, lines("x", "deny", "same-origin"), lines("", "deny", "same-origin"), lines("frame-options", "deny"), lines("cross-origin-embedder-policy", "same-origin"), lines("cross-origin-opener-policy", "same-origin"), lines(corp+"-report-only", "same-origin"), lines(xfo+"-report-only", "deny")} {
+	for _, l := range [][]api.Header{nil, {}, {{}}, samples.Lines("x", "deny", "same-origin"), samples.Lines("", "deny", "same-origin"), samples.Lines("frame-options", "deny"), samples.Lines("cross-origin-embedder-policy", "same-origin"), samples.Lines("cross-origin-opener-policy", "same-origin"), samples.Lines(corp+"-report-only", "same-origin"), samples.Lines(xfo+"-report-only", "deny")} {
 		check(t, l, api.CorpNone, api.XfoNone)
 	}
 	// What one of the headers knows is nothing to the other.
@@ -335,16 +308,16 @@ func TestNames(t *testing.T) {
 		if name == xfo {
 			value, wantCorp, wantXfo = "sameorigin", api.CorpNone, api.XfoSame
 		}
-		for _, sized := range sizes(name) {
-			check(t, lines(sized, value), wantCorp, wantXfo)
+		for _, sized := range samples.Sizes(name) {
+			check(t, samples.Lines(sized, value), wantCorp, wantXfo)
 		}
 		for i := range len(name) {
-			check(t, lines(name[:i]+name[i+1:], value), api.CorpNone, api.XfoNone)
-			check(t, lines(name[:i]+"_"+name[i+1:], value), api.CorpNone, api.XfoNone)
+			check(t, samples.Lines(name[:i]+name[i+1:], value), api.CorpNone, api.XfoNone)
+			check(t, samples.Lines(name[:i]+"_"+name[i+1:], value), api.CorpNone, api.XfoNone)
 		}
 		for _, other := range []string{" " + name, name + " ", name + "s", name + "-", name + "\x00", name + ":", "x" + name, "x-" + name, strings.Replace(name, "s", "\u017f", 1)} {
-			check(t, lines(other, value), api.CorpNone, api.XfoNone)
-			check(t, slices.Concat(lines(other, "deny"), lines(name, value), lines(other, "x")), wantCorp, wantXfo)
+			check(t, samples.Lines(other, value), api.CorpNone, api.XfoNone)
+			check(t, slices.Concat(samples.Lines(other, "deny"), samples.Lines(name, value), samples.Lines(other, "x")), wantCorp, wantXfo)
 		}
 	}
 }
@@ -353,10 +326,10 @@ func TestNames(t *testing.T) {
 func TestBoth(t *testing.T) {
 	for _, c := range corpKeywords() {
 		for _, x := range xfoKeywords() {
-			check(t, slices.Concat(lines(corp, c.text), lines(xfo, x.text)), c.value, x.value)
-			check(t, slices.Concat(lines(xfo, x.text), lines(corp, c.text), lines(xfo, x.text)), c.value, x.value)
-			check(t, slices.Concat(lines(xfo, x.text), lines(corp, c.text), lines(xfo, "y")), c.value, api.XfoDeny)
-			check(t, slices.Concat(lines(corp, "y"), lines(xfo, x.text), lines(corp, c.text)), api.CorpNone, x.value)
+			check(t, slices.Concat(samples.Lines(corp, c.text), samples.Lines(xfo, x.text)), c.value, x.value)
+			check(t, slices.Concat(samples.Lines(xfo, x.text), samples.Lines(corp, c.text), samples.Lines(xfo, x.text)), c.value, x.value)
+			check(t, slices.Concat(samples.Lines(xfo, x.text), samples.Lines(corp, c.text), samples.Lines(xfo, "y")), c.value, api.XfoDeny)
+			check(t, slices.Concat(samples.Lines(corp, "y"), samples.Lines(xfo, x.text), samples.Lines(corp, c.text)), api.CorpNone, x.value)
 		}
 	}
 }
@@ -372,7 +345,7 @@ func TestSameEachTime(t *testing.T) {
 
 // R4: what is handed in stays as it is, up to its capacity.
 func TestNothingChanged(t *testing.T) {
-	room := append(make([]api.Header, 0, 9), slices.Concat(lines(strings.ToUpper(corp), " same-site "), lines("X-Frame-Options", " DENY ,deny", "Deny "))...)
+	room := append(make([]api.Header, 0, 9), slices.Concat(samples.Lines(strings.ToUpper(corp), " same-site "), samples.Lines("X-Frame-Options", " DENY ,deny", "Deny "))...)
 	before := slices.Clone(room[:cap(room)])
 	for n := range len(room) + 1 {
 		Corp(room[:n])
@@ -388,7 +361,7 @@ func TestNothingChanged(t *testing.T) {
 func TestLong(t *testing.T) {
 	const n = 1 << 20
 	for _, value := range []string{strings.Repeat("x", n), strings.Repeat(",", n), strings.Repeat("\"", n), strings.Repeat("\\", n), strings.Repeat("same-origin,", n/8), strings.Repeat("x\n,", n/4)} {
-		check(t, slices.Concat(lines(corp, value), lines(xfo, value)), api.CorpNone, api.XfoNone)
+		check(t, slices.Concat(samples.Lines(corp, value), samples.Lines(xfo, value)), api.CorpNone, api.XfoNone)
 	}
 	checkCorp(t, api.CorpSame, strings.Repeat(" ", n)+"same-origin"+strings.Repeat("\n", n))
 	checkCorp(t, api.CorpNone, slices.Repeat([]string{"same-origin"}, n/8)...)
@@ -399,5 +372,5 @@ func TestLong(t *testing.T) {
 		many.WriteString(strings.Repeat("y", i%7) + string(rune('!'+i%999)) + strings.Repeat("z", i%11) + ",x")
 	}
 	checkXfo(t, api.XfoDeny, many.String(), "allowall")
-	check(t, slices.Concat(slices.Repeat(lines("x", "deny"), n/8), lines(xfo, "deny"), lines(corp, "same-site")), api.CorpSite, api.XfoDeny)
+	check(t, slices.Concat(slices.Repeat(samples.Lines("x", "deny"), n/8), samples.Lines(xfo, "deny"), samples.Lines(corp, "same-site")), api.CorpSite, api.XfoDeny)
 }

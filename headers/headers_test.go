@@ -7,6 +7,7 @@ import (
 
 	"glacis/api"
 	"glacis/octet"
+	"glacis/samples"
 )
 
 const blanks = "\t\n\f\r "
@@ -20,14 +21,6 @@ func valued(values ...string) []api.Header {
 		l = append(l, header("a", v))
 	}
 	return l
-}
-
-func allBytes() []string {
-	var out []string
-	for i := range 256 {
-		out = append(out, string([]byte{byte(i)}))
-	}
-	return out
 }
 
 func checkCheck(t *testing.T, l []api.Header, want api.Errno) {
@@ -101,7 +94,7 @@ func TestCheckEachPlace(t *testing.T) {
 // P7.1: each byte of a name.
 func TestCheckNameEachByte(t *testing.T) {
 	const tokens = "ABCDEFGHIJKLMNOPQRSTUVWXYZabcdefghijklmnopqrstuvwxyz0123456789!#$%&'*+-.^_|~\x60"
-	for _, c := range allBytes() {
+	for _, c := range samples.Bytes() {
 		want := api.ErrHeadForm
 		if strings.Contains(tokens, c) {
 			want = api.OK
@@ -124,7 +117,7 @@ func TestCheckNames(t *testing.T) {
 
 // P7.1: each byte of a value, in a short one and in a long one.
 func TestCheckValueEachByte(t *testing.T) {
-	for i, c := range allBytes() {
+	for i, c := range samples.Bytes() {
 		want := api.OK
 		if i == 0 || i == 10 || i == 13 {
 			want = api.ErrHeadForm
@@ -175,8 +168,8 @@ func TestNames(t *testing.T) {
 
 // P7.2: each two bytes as names.
 func TestNamesEachPair(t *testing.T) {
-	for _, a := range allBytes() {
-		for _, b := range allBytes() {
+	for _, a := range samples.Bytes() {
+		for _, b := range samples.Bytes() {
 			want := 0
 			if octet.Fold(a, b) {
 				want = 1
@@ -216,7 +209,7 @@ func TestOrder(t *testing.T) {
 
 // P7.2: which bytes are taken off at the ends of a value and of a part; each byte is tried alone.
 func TestBlanksEachByte(t *testing.T) {
-	for _, c := range allBytes() {
+	for _, c := range samples.Bytes() {
 		around := c + c + "x" + c + "y" + c
 		want := around
 		if strings.Contains(blanks, c) {

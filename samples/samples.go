@@ -1,0 +1,37 @@
+// Package samples makes inputs for the tests of the layers. No layer calls it.
+package samples
+
+import (
+	"strings"
+
+	"glacis/api"
+)
+
+// Bytes are all bytes, each as a text.
+func Bytes() []string {
+	var out []string
+	for i := range 256 {
+		out = append(out, string([]byte{byte(i)}))
+	}
+	return out
+}
+
+// Sizes are a text with each letter made great, alone and all together.
+func Sizes(text string) []string {
+	out := []string{strings.ToUpper(text)}
+	for i := range len(text) {
+		if up := text[:i] + strings.ToUpper(text[i:i+1]) + text[i+1:]; up != text {
+			out = append(out, up)
+		}
+	}
+	return out
+}
+
+// Lines are headers of one name.
+func Lines(name string, values ...string) []api.Header {
+	var out []api.Header
+	for _, v := range values {
+		out = append(out, api.Header{Name: name, Value: v})
+	}
+	return out
+}
