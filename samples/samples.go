@@ -5,6 +5,8 @@ import (
 	"strings"
 
 	"glacis/api"
+	"glacis/origin"
+	"glacis/urlp"
 )
 
 // Bytes are all bytes, each as a text.
@@ -32,6 +34,24 @@ func Lines(name string, values ...string) []api.Header {
 	var out []api.Header
 	for _, v := range values {
 		out = append(out, api.Header{Name: name, Value: v})
+	}
+	return out
+}
+
+// Origin is the origin of a URL's text; an opaque one has the number 1.
+func Origin(text string) api.Origin {
+	u, err := urlp.Parse(text)
+	if err != api.OK {
+		panic("no URL: " + text)
+	}
+	return origin.Of(u, 1)
+}
+
+// Origins are those of some texts.
+func Origins(texts ...string) []api.Origin {
+	var out []api.Origin
+	for _, text := range texts {
+		out = append(out, Origin(text))
 	}
 	return out
 }

@@ -35,3 +35,22 @@ func TestLines(t *testing.T) {
 		t.Errorf("%q", got)
 	}
 }
+
+func TestOrigins(t *testing.T) {
+	want := []api.Origin{{Scheme: "http", Host: api.Host{Name: "a"}, Port: 80}, {Scheme: "https", Host: api.Host{V4: true, Addr: 1 << 24}, Port: 8}, {Opaque: true, Id: 1}}
+	if got := Origins("http://a/b", "blob:https://1.0.0.0:8/", "data:,"); !slices.Equal(got, want) {
+		t.Errorf("%v", got)
+	}
+	if got := Origins(); len(got) != 0 {
+		t.Errorf("%v", got)
+	}
+}
+
+func TestOriginOfNoURL(t *testing.T) {
+	defer func() {
+		if recover() == nil {
+			t.Error("no panic")
+		}
+	}()
+	Origin("http:a")
+}
