@@ -38,14 +38,17 @@ func Lines(name string, values ...string) []api.Header {
 	return out
 }
 
-// Origin is the origin of a URL's text; an opaque one has the number 1.
-func Origin(text string) api.Origin {
+// URL is the URL of a text that is one.
+func URL(text string) api.URL {
 	u, err := urlp.Parse(text)
 	if err != api.OK {
 		panic("no URL: " + text)
 	}
-	return origin.Of(u, 1)
+	return u
 }
+
+// Origin is the origin of a URL's text; an opaque one has the number 1.
+func Origin(text string) api.Origin { return origin.Of(URL(text), 1) }
 
 // Origins are those of some texts.
 func Origins(texts ...string) []api.Origin {

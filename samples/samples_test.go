@@ -36,6 +36,13 @@ func TestLines(t *testing.T) {
 	}
 }
 
+func TestURL(t *testing.T) {
+	want := api.URL{Scheme: "http", Host: api.Host{Name: "a"}, Port: 8, Path: "/b", HasQuery: true, Query: "c"}
+	if got := URL("http://a:8/b?c"); got != want {
+		t.Errorf("%v", got)
+	}
+}
+
 func TestOrigins(t *testing.T) {
 	want := []api.Origin{{Scheme: "http", Host: api.Host{Name: "a"}, Port: 80}, {Scheme: "https", Host: api.Host{V4: true, Addr: 1 << 24}, Port: 8}, {Opaque: true, Id: 1}}
 	if got := Origins("http://a/b", "blob:https://1.0.0.0:8/", "data:,"); !slices.Equal(got, want) {
@@ -46,11 +53,15 @@ func TestOrigins(t *testing.T) {
 	}
 }
 
-func TestOriginOfNoURL(t *testing.T) {
-	defer func() {
-		if recover() == nil {
-			t.Error("no panic")
-		}
-	}()
-	Origin("http:a")
+func TestNoURL(t *testing.T) {
+	for _, of := range []func(){func() { URL("http:a") }, func() { Origin("http:a") }} {
+		func() {
+			defer func() {
+				if recover() == nil {
+					t.Error("no panic")
+				}
+			}()
+			of()
+		}()
+	}
 }
